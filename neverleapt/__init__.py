@@ -1,0 +1,1 @@
+"""Neverleapt: shares on a board that cannot be passed over."""
