@@ -62,12 +62,14 @@ def is_told(phrase, thing):
 def _behind(phrase, places, spots, end):
     """The places of a row to which a phrase can lead from some of its places.
 
-    Places are bits of a number, spots those of each pair. From the end each event leads to the
-    end again: what comes behind the row does not matter, and each phrase can be told to its end.
+    Places are bits of a number, spots those at which each pair stands.
     """
+    # At the end the row is told, whatever comes behind it: each phrase can be told to its end.
+    if not places or places & end:
+        return places
     kind = phrase[0]
     if kind == "event":
-        return (places & spots.get((phrase[1], phrase[2]), 0)) << 1 | places & end
+        return (places & spots.get((phrase[1], phrase[2]), 0)) << 1
     if kind == "row":
         for inner in phrase[1]:
             places = _behind(inner, places, spots, end)
