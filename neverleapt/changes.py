@@ -1,7 +1,7 @@
 """Machines made from others: mirrored, shifted, scaled, struck, parted, bundled."""
 
 from neverleapt.errors import NoEvent, NoEvents, NoNumber, NoPart, TooMany
-from neverleapt.kinds import is_between, is_whole
+from neverleapt.kinds import is_ascending, is_between, is_whole
 from neverleapt.machines import has_event, made
 
 FARTHEST = 1000
@@ -39,24 +39,13 @@ def scaled(machine, by):
 
 def struck(machine, events):
     """The machine without the events that an ascending tuple names."""
-    if not _are_events(machine, events):
+    if not is_ascending(events, 0, len(machine.events) - 1):
         raise NoEvents()
     return made(machine.standings, tuple([
         event
         for number, event in enumerate(machine.events)
         if number not in events
     ]))
-
-
-def _are_events(machine, thing):
-    if not isinstance(thing, tuple):
-        return False
-    least = 0
-    for number in thing:
-        if not has_event(machine, number) or number < least:
-            return False
-        least = number + 1
-    return True
 
 
 def parted(machine, event, tries, points):

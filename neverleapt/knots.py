@@ -46,6 +46,14 @@ def knots(machine):
     return found
 
 
+def knots_in_order(machine):
+    """The list of all knots, each ahead of those to which events lead from it."""
+    forth = _steps(machine, 0, 1)
+    # A knot leads to more standings than each one to which it leads.
+    placed = sorted([(-len(_spread(forth, knot[0])), knot) for knot in knots(machine)])
+    return [knot for _, knot in placed]
+
+
 def knot_of(machine, thing):
     """The knot in which a reached standing is, None for each other thing."""
     if not is_whole(thing):

@@ -1,11 +1,19 @@
 """Ways through a knot, and the rings of a knot with the greatest share."""
 
+from neverleapt.kinds import lift_of
+
 
 def total(machine, row):
     """All tries and all points of a row of events."""
     tries = sum([machine.events[number][2] for number in row])
     points = sum([machine.events[number][3] for number in row])
     return (tries, points)
+
+
+def row_lift(machine, share, row):
+    """The sum of the lifts of a row of events."""
+    tries, points = total(machine, row)
+    return lift_of(share, tries, points)
 
 
 def ways(machine, numbers, start):

@@ -1,6 +1,7 @@
 """Things that several tests share: odd objects, machines, and slow ways of working things out."""
 
 import random
+from fractions import Fraction
 
 from neverleapt.errors import BadMachine, LeapError, NoRun
 from neverleapt.machines import Machine
@@ -35,6 +36,18 @@ def odd_things():
         BadMachine(0), LeapError(), deep(40), deep(40, True), tuple([None] * 9999), [0] * 9999,
         {"event": (1, 1)}, ["event", 1, 1], random, "x" * 50,
     ]
+
+
+NO_SHARES = [
+    (0, 2), (2, 2), (2, 4), (-2, 4), (6, 3), (1, 0), (0, 0), (1, -1), (0, -1), (-1, -2), (3, -5), (10 ** 29, 10 ** 28),
+    [1, 2], (1,), (1, 2, 3), (True, 1), (1, True), (False, 1), (None, 1), (1, None), ("1", "2"), ((1, 2),), ((1,), 2),
+    1, 0, "1/2", "", (), deep(40), Fraction(1, 2),
+]
+NO_WAYS = ["", "Up", "UP", "up ", " down", "down\n", "left", "updown", 0, 1, ("up",), ["down"], b"up", ("up", "down"), deep(40)]
+# In knots, one behind another, with rings below 0 and above; in some of them rings of one kind alone.
+LINKED = Machine(4, (
+    (0, 0, 1, 1), (0, 0, 2, -1), (0, 1, 1, 0), (1, 2, 1, 3), (2, 1, 2, -3), (2, 3, 1, -2), (3, 3, 1, 1), (3, 3, 2, 3),
+))
 
 
 def random_machines(seed, many, most_standings=5, most_events=9, most_tries=4, most_points=6):

@@ -5,7 +5,10 @@ import builtins
 import importlib
 import inspect
 import pathlib
+import re
 import unittest
+
+from neverleapt import errors
 
 PACKAGE = pathlib.Path(__file__).resolve().parent.parent / "neverleapt"
 
@@ -28,9 +31,43 @@ INTERFACE = {
         "net": ["machine", "standing"], "area": ["machine", "standing"], "ends": ["machine", "standing"],
         "end_rings": ["machine", "standing"], "is_balanced": ["machine", "thing"],
     },
+    "lots": {
+        "Lot": ["low", "high", "members", "step", "below", "above"], "is_in": ["lot", "thing"],
+        "is_part": ["lot", "second"], "lot_of": ["numbers"], "every": ["step", "rest"], "joined": ["lot", "second"],
+        "common": ["lot", "second"], "lacking": ["lot"], "moved": ["lot", "by"], "least_in": ["lot"],
+        "greatest_in": ["lot"], "next_below": ["lot", "number"], "next_above": ["lot", "number"],
+        "many_in": ["lot", "one", "other"],
+    },
+    "tables": {
+        "values": ["machine", "share"], "is_closed": ["machine", "share", "thing"],
+        "is_table": ["machine", "share", "way", "thing"], "table_fault": ["machine", "share", "way", "thing"],
+    },
+    "verdicts": {"never": ["machine", "share", "way"], "rule": ["machine", "share", "way"]},
+    "leaping": {
+        "leap": ["machine", "share", "way"], "leap_behind": ["machine", "share", "way", "tries"],
+        "late_leap": ["machine", "share", "way", "tries"], "is_leap": ["machine", "share", "way", "thing"],
+        "leaps": ["machine", "share", "way", "run"], "meets": ["machine", "share", "run"],
+        "widest": ["machine", "share", "way"],
+    },
+    "stretches": {
+        "all_never": ["machine", "low", "high", "way"], "never_with": ["machine", "bottom", "way"],
+        "unlike_never": ["machine", "other", "low", "high", "way"],
+    },
+    "betweens": {
+        "between": ["machine", "first", "last", "share"], "often": ["machine", "first", "last", "share"],
+        "often_run": ["machine", "first", "last", "share", "most"], "surely_met": ["machine", "first", "last"],
+    },
+    "marking": {
+        "mark": ["share", "places", "how"], "marks": ["machine", "run", "places", "how"],
+        "last_leap": ["machine", "places", "how", "told", "way"],
+        "last_leap_run": ["machine", "places", "how", "told", "way"],
+    },
 }
 
-LIBRARY = {"math": {"gcd", "lcm", "isqrt", "comb", "perm", "factorial"}}
+LIBRARY = {
+    "math": {"gcd", "lcm", "isqrt", "comb", "perm", "factorial"},
+    "heapq": {"heappush", "heappop", "heapify", "heapreplace", "heappushpop"},
+}
 BUILTINS = set(
     "len range enumerate zip min max sum abs sorted reversed int str bool list tuple dict set isinstance ord repr "
     "any all divmod Exception ValueError TypeError KeyError IndexError LookupError".split()
@@ -42,7 +79,7 @@ METHODS = set(
 )
 NEVER = (
     ast.Global, ast.Nonlocal, ast.AsyncFunctionDef, ast.AsyncFor, ast.AsyncWith, ast.Await, ast.Div, ast.Pow,
-    ast.AnnAssign, ast.Lambda, ast.Try, ast.With, ast.GeneratorExp, ast.Yield, ast.YieldFrom, ast.Delete,
+    ast.AnnAssign, ast.Lambda, ast.With, ast.GeneratorExp, ast.Yield, ast.YieldFrom, ast.Delete,
 )
 PREFIXES = (
     "__", "_wall", "_pe_", "_dcw_", "_enum_", "_cm_", "_twin_re_", "_lay_", "_law_", "_stub_", "_sre", "_WallAttr",
@@ -62,6 +99,7 @@ class Interface(unittest.TestCase):
                     self.assertEqual(list(inspect.signature(told).parameters), arguments)
                     self.assertEqual(told.__module__, "neverleapt." + file)
         self.assertIn("__eq__", vars(importlib.import_module("neverleapt.machines").Machine))
+        self.assertIn("__eq__", vars(importlib.import_module("neverleapt.lots").Lot))
 
 
 class Files(unittest.TestCase):
@@ -132,6 +170,11 @@ class Files(unittest.TestCase):
                             self.assertIsInstance(other, ast.Constant)
                 if isinstance(node, ast.Constant) and isinstance(node.value, str):
                     self.assertNotIn("%", node.value)
+                if isinstance(node, ast.ExceptHandler):
+                    self.assertIn(node.type.id, vars(errors), path.name)
+                    self.assertIsNone(node.name)
+                if isinstance(node, (ast.For, ast.comprehension)) and isinstance(node.iter, ast.Call):
+                    self.assertNotIn(ast.unparse(node.iter.func), ("set", "frozenset"))
 
     def test_names(self):
         for path, _, tree in self.each():
@@ -154,7 +197,25 @@ class Files(unittest.TestCase):
                     self.assertNotIn(name, BARRED)
                     self.assertFalse(name.startswith(PREFIXES) and name not in ("__init__", "__eq__"), name)
 
+    def test_nothing_idle(self):
+        for path, _, tree in self.each():
+            used = {node.id for node in ast.walk(tree) if isinstance(node, ast.Name)}
+            for node in tree.body:
+                if isinstance(node, ast.ImportFrom):
+                    self.assertEqual([one.name for one in node.names if one.name not in used], [], path.name)
+                    self.assertEqual([one.name for one in node.names], sorted(
+                        [one.name for one in node.names], key=lambda name: (name.lower() == name, name)), path.name)
+        texts = " ".join(text for _, text, _ in self.each())
+        for path, _, tree in self.each():
+            for name in self.bound(tree):
+                told = name in INTERFACE.get(path.stem, {}) or path.stem == "errors"
+                self.assertTrue(told or len(re.findall(rf"\b{name}\b", texts)) > 1, name)
+
     def test_calls(self):
+        own = {
+            node.name for _, _, tree in self.each() for kind in tree.body if isinstance(kind, ast.ClassDef)
+            for node in kind.body if isinstance(node, ast.FunctionDef)
+        }
         for path, _, tree in self.each():
             known = set(self.bound(tree)) | BUILTINS
             for node in tree.body:
@@ -164,7 +225,7 @@ class Files(unittest.TestCase):
                 if isinstance(node, ast.Call) and isinstance(node.func, ast.Name):
                     self.assertIn(node.func.id, known, path.name)
                 if isinstance(node, ast.Call) and isinstance(node.func, ast.Attribute):
-                    self.assertIn(node.func.attr, METHODS, path.name)
+                    self.assertIn(node.func.attr, METHODS | own, path.name)
 
 
 if __name__ == "__main__":

@@ -13,16 +13,11 @@ from neverleapt.phrases import spoken
 from neverleapt.rings import area, end_rings, ends, is_balanced, lead, lift, measure, net, value
 from tests.phrasesamples import HIT, MISS, event
 from tests.samples import (
-    EMPTY, H, KNOTTED, S, T, deep, knot_with, led_to, odd_things, random_machines, runs_of, simple_rings, simple_rows,
-    total_of,
+    EMPTY, H, KNOTTED, NO_SHARES, S, T, deep, knot_with, led_to, odd_things, random_machines, runs_of, simple_rings,
+    simple_rows, total_of,
 )
 
 SHARES = [(0, 1), (1, 1), (-1, 1), (1, 2), (4, 5), (-7, 3), (10 ** 29 + 1, 10 ** 29), (-3, 10 ** 29), (2, 10 ** 29 + 1)]
-NO_SHARES = [
-    (0, 2), (2, 2), (2, 4), (-2, 4), (6, 3), (1, 0), (0, 0), (1, -1), (0, -1), (-1, -2), (3, -5), (10 ** 29, 10 ** 28),
-    [1, 2], (1,), (1, 2, 3), (True, 1), (1, True), (False, 1), (None, 1), (1, None), ("1", "2"), ((1, 2),), ((1,), 2),
-    1, 0, "1/2", "", (), deep(40), Fraction(1, 2),
-]
 RINGS = Machine(4, (
     (0, 1, 2, 1), (1, 2, 3, 4), (2, 0, 1, -2), (1, 0, 4, 4), (2, 3, 5, 5), (3, 3, 6, -4), (0, 2, 1, 7),
 ))
