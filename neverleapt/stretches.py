@@ -26,10 +26,10 @@ def unlike_never(machine, other, low, high, way):
     """The ascending list of all shares from low to high that runs of just one of both machines leap."""
     _check_stretch((machine, other), low, high)
     check_way(way)
-    found = _all_never(machine, low, high, way)
-    second = _all_never(other, low, high, way)
-    unlike = [share for share in found if share not in second]
-    return by_size(unlike + [share for share in second if share not in found])
+    first = {share: True for share in _all_never(machine, low, high, way)}
+    second = {share: True for share in _all_never(other, low, high, way)}
+    unlike = [share for share in first if share not in second]
+    return by_size(unlike + [share for share in second if share not in first])
 
 
 def _check_stretch(machines, low, high):
