@@ -27,8 +27,7 @@ class Passage:
         ahead = 0
         if share is not None:
             ahead = lift_of(share, self.first[0], self.first[1])
-            shown_at_first = ahead == 0 and self.first[0] > 0
-            if shown_at_first or lift_of(share, self.last[0], self.last[1]) == 0:
+            if ahead == 0 and self.first[0] > 0:
                 return None
         tries, points = self.last[0] - self.first[0], self.last[1] - self.first[1]
         grid = Grid(self.machine, self.grain, self.begins, tries, share, ahead)

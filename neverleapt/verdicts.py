@@ -1,12 +1,14 @@
 """Whether no run leaps over a share, and the rule that decides it event by event."""
 
+from math import gcd
+
 from neverleapt.balance import Balance
 from neverleapt.checks import check_share, check_way
 from neverleapt.comings import coming
 from neverleapt.errors import NotBalanced, TooMany
 from neverleapt.kinds import lift_of
-from neverleapt.knots import reached
 from neverleapt.leapsearch import Search, upward
+from neverleapt.machines import made
 from neverleapt.rings import is_balanced
 from neverleapt.tables import leap_start
 
@@ -33,23 +35,29 @@ def leaping_events(machine, share, one_leap):
     """The list of the pairs (lift, event) of all events that leap up in some run, or one of them if that is enough."""
     if is_balanced(machine, share):
         return Balance(machine).leaping_up(share)
+    low, whole = _levelled(machine, share)
     try:
-        lots = coming(machine, share)
+        lots = coming(low, (0, 1))
     except TooMany:
         return _searched(machine, share, one_leap)
-    found = []
-    for number in _met(machine):
-        before, _, tries, points = machine.events[number]
-        lift = lift_of(share, tries, points)
-        if leap_start(lots[before], lift, "up") is not None:
-            found.append((lift, number))
-    return found
+    return [
+        (whole * lift, number)
+        for number, (before, _, _, lift) in enumerate(low.events)
+        if leap_start(lots[before], lift, "up") is not None
+    ]
 
 
-def _met(machine):
-    """The numbers of the events of reached standings."""
-    standings = reached(machine)
-    return [number for number, event in enumerate(machine.events) if event[0] in standings]
+def _levelled(machine, share):
+    """A machine whose lifts over the share 0 are those over the share by the greatest integer that divides all."""
+    lifts = [lift_of(share, tries, points) for _, _, tries, points in machine.events]
+    whole = 0
+    for lift in lifts:
+        whole = gcd(whole, lift)
+    whole = max(whole, 1)
+    return made(machine.standings, tuple([
+        (before, after, tries, lifts[number] // whole)
+        for number, (before, after, tries, _) in enumerate(machine.events)
+    ])), whole
 
 
 def _searched(machine, share, one_leap):

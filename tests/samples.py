@@ -66,6 +66,34 @@ def random_machines(seed, many, most_standings=5, most_events=9, most_tries=4, m
     return found
 
 
+def knotted_machines(seed, many):
+    """So many machines of two or three knots of two or three standings each, one behind another, of all kinds of rings.
+
+    The rings of a knot all have the lift 0 over the share 0, or all rise, or all sink, or are mixed.
+    """
+    source = random.Random(seed)
+    found = []
+    for _ in range(many):
+        events, first = [], 0
+        for place in range(source.randint(2, 3)):
+            size = source.randint(2, 3)
+            heights = [source.randint(-5, 5) for _ in range(size)]
+            rises = source.choice([(0,), (0, 1, 2), (2, 3), (0, -1, -3), (-2, -3), (-2, 2), (-1, 0, 3)])
+            steps = [(k, (k + 1) % size) for k in range(size)]
+            steps += [(source.randrange(size), source.randrange(size)) for _ in range(source.randint(0, 2))]
+            for one, other in steps:
+                lift = heights[other] - heights[one] + source.choice(rises)
+                events.append((first + one, first + other, source.randint(1, 3), lift))
+            if place:
+                for _ in range(source.randint(1, 2)):
+                    events.append((
+                        source.randrange(first - last, first), first + source.randrange(size), 1, source.randint(-6, 6)))
+            first += size
+            last = size
+        found.append(Machine(first, tuple(events)))
+    return found
+
+
 def runs_of(machine, most):
     """All runs of at most so many events, found one by one."""
     found = [()]

@@ -12,7 +12,8 @@ from neverleapt.rings import is_balanced, lead, measure
 from neverleapt.tables import is_closed, is_table, table_fault, values
 from tests.phrasesamples import HIT, MISS, event
 from tests.samples import (
-    EMPTY, H, KNOTTED, LINKED, NO_SHARES, NO_WAYS, S, T, deep, led_to, odd_things, random_machines, runs_of, total_of,
+    EMPTY, H, KNOTTED, LINKED, NO_SHARES, NO_WAYS, S, T, deep, knotted_machines, led_to, odd_things, random_machines,
+    runs_of, total_of,
 )
 from tests.slow import GREAT_SHARES, SHARES, lift, states_of
 from tests.test_lots import parts_of, random_parts
@@ -78,6 +79,18 @@ class Values(unittest.TestCase):
             for sign in (1, -1):
                 events = tuple(one[:3] + (sign * abs(one[3]),) for one in machine.events)
                 self.check_near(Machine(machine.standings, events), source.choice([(0, 1), (sign, 3), (sign, 2)]))
+
+    def test_of_knots_of_all_kinds_entered_anywhere(self):
+        for machine in knotted_machines(85, 150):
+            self.check_near(machine, (0, 1), 200)
+
+    def test_level_knots_and_tails_by_hand(self):
+        # A knot that is level, entered at its second standing; one that rises, entered so from endless tails.
+        level = Machine(3, ((0, 2, 1, 7), (1, 2, 1, 5), (2, 1, 1, -5)))
+        self.assertTrue(values(level, (0, 1)) == (lot_of([0]), lot_of([2]), lot_of([7])))
+        rising = Machine(3, ((0, 0, 1, -4), (0, 2, 1, 1), (1, 2, 1, 5), (2, 1, 1, 3)))
+        told = values(rising, (0, 1))
+        self.assertTrue(told == (Lot(1, 1, (), 4, (0,), ()), every(4, 0), every(4, 1)))
 
     def test_runs_lead_into_them(self):
         for machine in [KNOTTED, LINKED, GREATEST] + random_machines(76, 40):

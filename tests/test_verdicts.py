@@ -7,13 +7,16 @@ from math import gcd
 
 from neverleapt.changes import mirrored, parted, scaled, shifted, struck
 from neverleapt.errors import NoShare, NotBalanced, NoWay, TooMany
+from neverleapt.leaping import leap, widest
 from neverleapt.machines import Machine
 from neverleapt.phrases import spoken
 from neverleapt.rings import is_balanced, lead, measure
 from neverleapt.tables import is_table, values
 from neverleapt.verdicts import never, rule
 from tests.phrasesamples import HIT, MISS, event
-from tests.samples import EMPTY, H, KNOTTED, LINKED, NO_SHARES, NO_WAYS, S, T, led_to, odd_things, random_machines
+from tests.samples import (
+    EMPTY, H, KNOTTED, LINKED, NO_SHARES, NO_WAYS, S, T, knotted_machines, led_to, odd_things, random_machines,
+)
 from tests.slow import GREAT_SHARES, SHARES, leaping_runs, lift, states_of
 from tests.test_tables import GREATEST
 
@@ -112,6 +115,62 @@ class Never(unittest.TestCase):
         self.check(machine, (0, 1), "up", False)
         self.check(struck(machine, (3,)), (0, 1), "up", True)
         self.check(machine, (0, 1), "down", True)
+
+    def test_knots_of_all_kinds(self):
+        for machine in knotted_machines(87, 150):
+            states = states_of(machine, (0, 1), 200)
+            for way in WAYS:
+                self.check(machine, (0, 1), way, not leaps_in(machine, (0, 1), way, states))
+
+    def test_great_lifts_beside_few_values(self):
+        # So great that no table can be told, but with rings on one side the values soon are far away for good.
+        told = 0
+        for machine in knotted_machines(88, 150) + random_machines(89, 150, 5, 8, 3, 4):
+            great = scaled(scaled(scaled(machine, 1000), 1000), 999)
+            for way in WAYS:
+                try:
+                    self.check(great, (0, 1), way, never(machine, (0, 1), way))
+                    told += 1
+                except TooMany:
+                    self.assertFalse(is_balanced(machine, (0, 1)))
+        self.assertGreater(told, 400)
+
+    def test_great_lifts_beside_some_thousands_of_values(self):
+        # Eight steps upwards, of thousands of sums, then three downwards, or the last one upwards again.
+        share = (1, 10 ** 29)
+        rising = tuple(
+            (k, k + 1, tries, points) for k in range(8) for tries, points in ((1, 1), (1, 1 + 2 ** k), (4 * k + 2, 2)))
+        sinking = tuple((k, k + 1, tries, -150) for k in (8, 9) for tries in (1, 9))
+        for last, up in ((-1, True), (400, False)):
+            machine = Machine(12, rising + sinking + ((10, 11, 1, last - 1), (10, 11, 1, last)))
+            self.assertRaises(TooMany, values, machine, share)
+            self.check(machine, share, "up", up)
+            self.check(machine, share, "down", False)
+            self.check(mirrored(machine), (-1, 10 ** 29), "down", up)
+            self.assertEqual(widest(machine, share, "up"), None if up else (lift(share, machine.events[-1]), 29))
+            self.assertEqual(widest(machine, share, "down"), (-lift(share, machine.events[25]), 25))
+
+    def test_where_neither_a_table_nor_a_search_tells(self):
+        # From far below a ring leads up by 2, along one of two rows of numbers far apart.
+        machine = Machine(2, ((0, 1, 2, -1), (1, 1, 2, 0), (0, 1, 3, -4)))
+        for function in (never, widest, leap):
+            with self.assertRaises(TooMany) as caught:
+                function(machine, (-1, 10 ** 29), "up")
+            self.assertEqual(caught.exception.most, 4000)
+
+    def test_lifts_with_a_common_divisor(self):
+        # By steps of 8000 no table can be told; by those of 1 it can.
+        machine = Machine(2, ((0, 0, 1, 1), (0, 1, 1, 0), (1, 1, 1, 1), (1, 1, 1, -1), (1, 0, 1, 2)))
+        for events in ((0, 1, 2, 3), (0, 1, 3), (1, 3)):
+            rest = struck(machine, tuple(number for number in range(5) if number not in events))
+            great = scaled(scaled(rest, 1000), 8)
+            for way in WAYS:
+                self.check(great, (0, 1), way, never(rest, (0, 1), way))
+                self.assertIsNone(widest(great, (0, 1), way))
+        great = scaled(scaled(Machine(2, machine.events[:4] + ((1, 1, 1, 3),)), 1000), 8)
+        self.check(great, (0, 1), "up", False)
+        self.assertEqual(widest(great, (0, 1), "up"), (24000, 4))
+        self.check(Machine(2, ((0, 1, 1, 0), (1, 1, 1, 0))), (0, 1), "up", True)
 
     def test_both_ways(self):
         for machine in random_machines(95, 100):
