@@ -1,6 +1,6 @@
 """What integers, pairs, shares and ways are, for all other files."""
 
-from math import gcd, lcm
+from math import gcd
 
 
 def is_whole(thing):
@@ -58,8 +58,7 @@ def lift_of(share, tries, points):
 
 def by_size(shares):
     """The list of these shares ascending as fractions."""
-    common = 1
-    for share in shares:
-        common = lcm(common, share[1])
-    placed = sorted([(share[0] * (common // share[1]), share) for share in shares])
+    most = max([bottom for _, bottom in shares], default=1)
+    # Two of them are at least 1 / (most * most) apart: so many times as great they have unlike whole parts.
+    placed = sorted([(top * most * most // bottom, (top, bottom)) for top, bottom in shares])
     return [share for _, share in placed]

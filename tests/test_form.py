@@ -62,11 +62,33 @@ INTERFACE = {
         "last_leap": ["machine", "places", "how", "told", "way"],
         "last_leap_run": ["machine", "places", "how", "told", "way"],
     },
+    "mends": {
+        "fewest_struck": ["machine", "share", "way"], "is_mend": ["machine", "share", "way", "thing"],
+        "least_shown": ["machine", "share", "way", "most"],
+    },
+    "counts": {
+        "many_runs": ["machine", "many"], "many_leaping": ["machine", "share", "way", "many"],
+        "many_meeting": ["machine", "share", "many"], "run_at": ["machine", "many", "number"],
+        "run_number": ["machine", "run"],
+    },
+    "chances": {
+        "chance": ["machine", "share", "way", "weights", "many"],
+        "meeting_chance": ["machine", "share", "weights", "many"],
+    },
+    "logs": {
+        "fitting": ["machine", "log"], "first_wrong": ["machine", "log"], "next_shares": ["machine", "log"],
+        "surely_leapt": ["machine", "log", "share", "way"],
+    },
+}
+METHODS_OF = {
+    ("machines", "Machine"): {"__eq__": ["other"]},
+    ("lots", "Lot"): {"__eq__": ["other"]},
 }
 
 LIBRARY = {
     "math": {"gcd", "lcm", "isqrt", "comb", "perm", "factorial"},
     "heapq": {"heappush", "heappop", "heapify", "heapreplace", "heappushpop"},
+    "itertools": {"combinations", "permutations", "product"},
 }
 BUILTINS = set(
     "len range enumerate zip min max sum abs sorted reversed int str bool list tuple dict set isinstance ord repr "
@@ -98,8 +120,14 @@ class Interface(unittest.TestCase):
                     told = getattr(module, name)
                     self.assertEqual(list(inspect.signature(told).parameters), arguments)
                     self.assertEqual(told.__module__, "neverleapt." + file)
-        self.assertIn("__eq__", vars(importlib.import_module("neverleapt.machines").Machine))
-        self.assertIn("__eq__", vars(importlib.import_module("neverleapt.lots").Lot))
+
+    def test_methods_stand_in_their_class(self):
+        for (file, name), methods in METHODS_OF.items():
+            told = getattr(importlib.import_module("neverleapt." + file), name)
+            for method, arguments in methods.items():
+                with self.subTest(name, method=method):
+                    self.assertIn(method, vars(told))
+                    self.assertEqual(list(inspect.signature(vars(told)[method]).parameters), ["self"] + arguments)
 
 
 class Files(unittest.TestCase):
