@@ -1,9 +1,8 @@
 """Phrases as texts, and such texts read back."""
 
 from neverleapt.errors import BadText, NoPhrase
+from neverleapt.numerals import MOST_FIGURES
 from neverleapt.phrases import DEEPEST, is_phrase, within
-
-MOST_FIGURES = 40
 
 
 def phrase_text(phrase):

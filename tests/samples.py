@@ -3,7 +3,10 @@
 import random
 from fractions import Fraction
 
+from neverleapt.desk import Desk
 from neverleapt.errors import BadMachine, LeapError, NoRun
+from neverleapt.live import Board
+from neverleapt.lots import every
 from neverleapt.machines import Machine
 
 H = Machine(1, ((0, 0, 1, 1), (0, 0, 1, 0)))
@@ -34,7 +37,7 @@ def odd_things():
         iter(()), (number for number in (0, 1)), enumerate([]), zip([], []), object(), int, tuple, len, deep,
         lambda: 0, NotImplemented, ..., ValueError("x"), Machine(1, ()), Machine, NoRun(), NoRun,
         BadMachine(0), LeapError(), deep(40), deep(40, True), tuple([None] * 9999), [0] * 9999,
-        {"event": (1, 1)}, ["event", 1, 1], random, "x" * 50,
+        {"event": (1, 1)}, ["event", 1, 1], random, "x" * 50, [every(1, 0)], Board(Machine(1, ())), Board, Desk(),
     ]
 
 

@@ -79,10 +79,20 @@ INTERFACE = {
         "fitting": ["machine", "log"], "first_wrong": ["machine", "log"], "next_shares": ["machine", "log"],
         "surely_leapt": ["machine", "log", "share", "way"],
     },
+    "live": {"Board": ["machine"]},
+    "texts": {"share_text": ["share"], "machine_text": ["machine"], "lot_text": ["lot"], "table_text": ["table"]},
+    "reading": {"read_share": ["text"], "read_machine": ["text"], "read_lot": ["text"], "read_table": ["text"]},
+    "desk": {"Desk": []},
 }
 METHODS_OF = {
     ("machines", "Machine"): {"__eq__": ["other"]},
     ("lots", "Lot"): {"__eq__": ["other"]},
+    ("live", "Board"): {
+        "come": ["event"], "shown": [], "share": [], "standing": [], "past": [], "can_come": [],
+        "leapt": ["share", "way"], "met": ["share"], "can_leap": ["share", "way"], "back": [], "copy": [],
+        "trying": ["action"],
+    },
+    ("desk", "Desk"): {"tell": ["line"], "undoable": []},
 }
 
 LIBRARY = {
@@ -251,7 +261,9 @@ class Files(unittest.TestCase):
                     known |= {one.name for one in node.names}
             for node in ast.walk(tree):
                 if isinstance(node, ast.Call) and isinstance(node.func, ast.Name):
-                    self.assertIn(node.func.id, known, path.name)
+                    # Functions out of a table, and those that are passed.
+                    if (path.stem, node.func.id) not in (("desk", "answer"), ("live", "action")):
+                        self.assertIn(node.func.id, known, path.name)
                 if isinstance(node, ast.Call) and isinstance(node.func, ast.Attribute):
                     self.assertIn(node.func.attr, METHODS | own, path.name)
 
